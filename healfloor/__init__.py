@@ -1,0 +1,1 @@
+"""Healfloor: floors that mend by themselves, or never."""
