@@ -119,5 +119,15 @@ class Moved(unittest.TestCase):
             self.assertIs(type(told), tuple)
 
 
+class AskedAgain(unittest.TestCase):
+    def test_told_the_same(self):
+        def ask():
+            told = [(worth(slope, cell), worth_at(slope, point_of(cell))) for slope in SLOPES for cell in CELLS]
+            told += [(side_of(one, other, (1, 1)), carried(one, other)) for one in CELLS for other in CELLS]
+            return told + [led((1, 2, 3, 4), cell) for cell in CELLS]
+
+        self.assertEqual(ask(), ask())
+
+
 if __name__ == "__main__":
     unittest.main()

@@ -113,5 +113,16 @@ class Rounded(unittest.TestCase):
             self.assertEqual({type(floor_of(one)), type(ceiling_of(one))}, {int})
 
 
+class AskedAgain(unittest.TestCase):
+    def test_told_the_same(self):
+        def ask():
+            told = [fraction(upper, lower) for upper in NUMBERS for lower in NUMBERS if lower != 0]
+            for one, other in itertools.product(FRACTIONS, FRACTIONS):
+                told += [added(one, other), less(one, other), times(one, other), is_less(one, other)]
+            return told + [(floor_of(one), ceiling_of(one)) for one in FRACTIONS]
+
+        self.assertEqual(ask(), ask())
+
+
 if __name__ == "__main__":
     unittest.main()

@@ -1,0 +1,85 @@
+"""What several tests have in common: rules by chance, and a rule's doing reckoned in another way."""
+
+
+def chance_cell(chance, far=3):
+    return (chance.randint(-far, far), chance.randint(-far, far))
+
+
+def chance_table(chance):
+    while True:
+        table = tuple([chance.randint(-2, 2) for k in range(4)])
+        if table[0] * table[3] != table[1] * table[2]:
+            return table
+
+
+def chance_rule(chance, deep, names=(), thens=2):
+    """A rule by chance, at most so deep, with at most so many "then" one within another."""
+    form = chance.choice(("cell", "name", "all", "any", "least", "at", "by", "then"))
+    if form == "name" and names:
+        return ("name", chance.choice(names))
+    if deep <= 1 or form in ("cell", "name") or (form == "then" and thens == 0):
+        return ("cell",) + chance_cell(chance)
+
+    def part(fewer=0):
+        return chance_rule(chance, deep - 1, names, thens - fewer)
+
+    if form == "at":
+        return ("at",) + chance_cell(chance) + (part(),)
+    if form == "by":
+        return ("by", chance_table(chance), part())
+    if form == "then":
+        return ("then", part(1), part(1))
+    parts = tuple([part() for k in range(chance.randint(1, 4))])
+    if form == "least":
+        return ("least", chance.randint(1, len(parts)), parts)
+    return (form, parts)
+
+
+def all_broken(rule, broken, tables=()):
+    """All cells that a rule breaks, as a set, from the set of all broken ones: whole floors, never a single cell."""
+
+    def moved(cells, by):
+        for table in reversed(tables):
+            by = (table[0] * by[0] + table[1] * by[1], table[2] * by[0] + table[3] * by[1])
+        return {(cell[0] - by[0], cell[1] - by[1]) for cell in cells}
+
+    form = rule[0]
+    if form == "cell":
+        return moved(broken, rule[1:])
+    if form == "at":
+        return moved(all_broken(rule[3], broken, tables), rule[1:3])
+    if form == "by":
+        return all_broken(rule[2], broken, tables + (rule[1],))
+    if form == "then":
+        return all_broken(rule[2], all_broken(rule[1], broken, tables), tables)
+    each = [all_broken(part, broken, tables) for part in rule[-1]]
+    least = {"all": len(each), "any": 1}.get(form) or rule[1]
+    return {cell for cell in set().union(*each) if sum([cell in part for part in each]) >= least}
+
+
+def plain_text(rule):
+    """A rule's text, by calls: of rules that aren't deep."""
+    form = rule[0]
+    if form == "cell":
+        return "%d,%d" % rule[1:]
+    if form == "name":
+        return rule[1]
+    if form == "at":
+        return "at(%d,%d %s)" % (rule[1], rule[2], plain_text(rule[3]))
+    if form == "by":
+        return "by(%d,%d,%d,%d %s)" % (rule[1] + (plain_text(rule[2]),))
+    if form == "then":
+        return "then(%s %s)" % (plain_text(rule[1]), plain_text(rule[2]))
+    head = "%d" % rule[1] if form == "least" else form
+    return "%s(%s)" % (head, " ".join([plain_text(part) for part in rule[-1]]))
+
+
+def kinds_in(thing):
+    """The kinds of all that a told thing has within it, however deep."""
+    kinds, waiting = set(), [thing]
+    while waiting:
+        here = waiting.pop()
+        kinds.add(type(here))
+        if isinstance(here, (tuple, list)):
+            waiting.extend(here)
+    return kinds
