@@ -50,6 +50,6 @@ def carried(cell, by):
     return (cell[0] + by[0], cell[1] + by[1])
 
 
-def lookup_of(cells):
-    """The cells as keys of a dict, so that to ask whether one is among them costs one step."""
-    return dict([(cell, True) for cell in cells])
+def lookup_of(things):
+    """The things as keys of a dict, so that to ask whether one is among them costs one step."""
+    return dict([(thing, True) for thing in things])

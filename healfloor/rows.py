@@ -1,6 +1,7 @@
 """Rows of cells: the least ones, plain rules, and the rows that heal."""
 
 from healfloor.cells import lookup_of
+from healfloor.errors import TooMany
 
 MOST_CELLS = 8
 
@@ -24,9 +25,34 @@ def mask_of(row, bits):
     return mask
 
 
+def masks_of(rows, bits):
+    return [mask_of(row, bits) for row in rows]
+
+
+def shared_bits(plains):
+    """A bit for each cell of these plain rules together; refused where they are more than a plain rule may have."""
+    rows = []
+    for plain in plains:
+        rows.extend(plain)
+    bits = bits_of(rows)
+    if len(bits) > MOST_CELLS:
+        raise TooMany(MOST_CELLS)
+    return bits
+
+
 def has_within(mask, others):
     """Whether one of the others lies within the mask."""
     return any([other & mask == other for other in others])
+
+
+def rows_that_break(bits, is_breaking):
+    """The least rows of the cells whose masks are breaking; where one is, each that it lies within must be, too."""
+    least = []
+    # Whatever lies within a mask is a lesser number: it was looked at ahead of it.
+    for mask in range(1, sum(bits.values()) + 1):
+        if not has_within(mask, least) and is_breaking(mask):
+            least.append(mask)
+    return tuple(sorted([row_of(mask, bits) for mask in least]))
 
 
 def least_rows(rows):

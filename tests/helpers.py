@@ -1,4 +1,6 @@
-"""What several tests have in common: rules by chance, and a rule's doing reckoned in another way."""
+"""What several tests have in common: rules by chance, and what rules and rows do reckoned in another way."""
+
+import itertools
 
 
 def chance_cell(chance, far=3):
@@ -83,3 +85,27 @@ def kinds_in(thing):
         if isinstance(here, (tuple, list)):
             waiting.extend(here)
     return kinds
+
+
+def some_of(cells):
+    """All rows of some of the cells, at least one."""
+    cells = sorted(cells)
+    return [row for many in range(1, len(cells) + 1) for row in itertools.combinations(cells, many)]
+
+
+def least_by_hand(rows):
+    least = {row for row in rows if not any(set(other) < set(row) for other in rows)}
+    return tuple(sorted(least))
+
+
+def cells_of(plain):
+    return sorted({cell for row in plain for cell in row})
+
+
+def healing_by_hand(plain):
+    return least_by_hand([row for row in some_of(cells_of(plain)) if all(set(row) & set(other) for other in plain)])
+
+
+def chance_plain(chance, cells):
+    rows = some_of(cells)
+    return least_by_hand(chance.sample(rows, chance.randint(1, min(len(rows), 12))))

@@ -5,34 +5,11 @@ import random
 import unittest
 
 from healfloor.rows import at_most_as_bad, breaks_by, exchanged, is_healing, is_plain, least_rows
+from helpers import cells_of, chance_plain, healing_by_hand, least_by_hand, some_of
 
 A, B, C, D, E = (-1, 2), (0, 0), (0, 1), (3, -3), (3, 5)
 FAR = 10 ** 40
 MANY = tuple([(x, -x) for x in range(9)])
-
-
-def some_of(cells):
-    """All rows of some of the cells, at least one."""
-    cells = sorted(cells)
-    return [row for many in range(1, len(cells) + 1) for row in itertools.combinations(cells, many)]
-
-
-def least_by_hand(rows):
-    least = {row for row in rows if not any(set(other) < set(row) for other in rows)}
-    return tuple(sorted(least))
-
-
-def cells_of(plain):
-    return sorted({cell for row in plain for cell in row})
-
-
-def healing_by_hand(plain):
-    return least_by_hand([row for row in some_of(cells_of(plain)) if all(set(row) & set(other) for other in plain)])
-
-
-def chance_plain(chance, cells):
-    rows = some_of(cells)
-    return least_by_hand(chance.sample(rows, chance.randint(1, min(len(rows), 12))))
 
 
 class Least(unittest.TestCase):
