@@ -28,3 +28,11 @@ def seen_between(mask, pairs):
     The pairs have for each place its bit, and the masks that break it.
     """
     return sum([bit for bit, masks in pairs if has_within(mask, masks)])
+
+
+def so_often(plain, many):
+    """The plain rule whose beat is so many beats, or TooMany as soon as there are too many cells."""
+    told = plain
+    for step in range(many - 1):
+        told = behind(told, plain)
+    return told

@@ -7,9 +7,9 @@ def chance_cell(chance, far=3):
     return (chance.randint(-far, far), chance.randint(-far, far))
 
 
-def chance_table(chance):
+def chance_table(chance, far=2):
     while True:
-        table = tuple([chance.randint(-2, 2) for k in range(4)])
+        table = tuple([chance.randint(-far, far) for k in range(4)])
         if table[0] * table[3] != table[1] * table[2]:
             return table
 
@@ -109,3 +109,28 @@ def healing_by_hand(plain):
 def chance_plain(chance, cells):
     rows = some_of(cells)
     return least_by_hand(chance.sample(rows, chance.randint(1, min(len(rows), 12))))
+
+
+def value(slope, cell):
+    return slope[0] * cell[0] + slope[1] * cell[1]
+
+
+def turn_of(one, other, third):
+    """Above nought where the third point lies left of the way from one to the other; all of Python's own fractions."""
+    return (other[0] - one[0]) * (third[1] - one[1]) - (other[1] - one[1]) * (third[0] - one[0])
+
+
+def in_triangle(point, corners):
+    """Whether the point lies in the triangle, also where this is a stretch or a point."""
+    a, b, c = corners
+    turns = [turn_of(a, b, point), turn_of(b, c, point), turn_of(c, a, point)]
+    if any(turns):
+        return min(turns) >= 0 or max(turns) <= 0
+    # All on one line: within the ends both ways.
+    return all([min(a[k], b[k], c[k]) <= point[k] <= max(a[k], b[k], c[k]) for k in (0, 1)])
+
+
+def in_hull_by_hand(cells, point):
+    """Whether the point, of two numbers or fractions of Python's own, lies in a triangle of the cells."""
+    triples = itertools.combinations_with_replacement(sorted(set(cells)), 3)
+    return any(in_triangle(point, triple) for triple in triples)

@@ -5,7 +5,7 @@ import random
 import unittest
 
 from healfloor.islands import both_of, cut, island_carried, island_led, island_of, outermost, together, without
-from helpers import chance_cell, chance_table, kinds_in
+from helpers import chance_cell, chance_table, kinds_in, value
 
 FAR = 10 ** 18
 A, B, C, D = (-2, 5), (0, -1), (0, 3), (4, 0)
@@ -15,10 +15,6 @@ SLOPES = ((0, 0), (1, 0), (0, 1), (-1, 0), (2, -3), (-10 ** 6, 10 ** 6))
 
 def chance_island(chance, most=12):
     return tuple(sorted({chance_cell(chance) for k in range(chance.randint(0, most))}))
-
-
-def value(slope, cell):
-    return slope[0] * cell[0] + slope[1] * cell[1]
 
 
 class Made(unittest.TestCase):
