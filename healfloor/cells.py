@@ -46,6 +46,16 @@ def led(table, cell):
     return (worth(table[:2], cell), worth(table[2:], cell))
 
 
+def each_led(table, cells):
+    """The cells to which the table leads these, each in its place."""
+    return tuple([led(table, cell) for cell in cells])
+
+
+def stretch_of(table):
+    """How many times as great the table makes what it leads; below nought where it turns about, too."""
+    return table[0] * table[3] - table[1] * table[2]
+
+
 def carried(cell, by):
     return (cell[0] + by[0], cell[1] + by[1])
 

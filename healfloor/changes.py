@@ -1,5 +1,6 @@
 """Plain rules changed: carried, led by a table, put behind one another."""
 
+from healfloor.cells import each_led
 from healfloor.islands import island_carried, island_led
 from healfloor.rows import bits_of, has_within, masks_of, rows_that_break, shared_bits
 
@@ -11,6 +12,11 @@ def plain_carried(plain, by):
 
 def plain_led(plain, table):
     return tuple(sorted([island_led(row, table) for row in plain]))
+
+
+def rows_led(rows, table):
+    """Each cell of each row led, in its place: what is told so needn't be rising."""
+    return tuple([each_led(table, row) for row in rows])
 
 
 def behind(one, other):

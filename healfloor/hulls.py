@@ -35,10 +35,15 @@ def inward(corners):
     """The slopes that rise from a hull's sides to its inside."""
     if len(corners) == 1:
         return list(ALL_WAYS)
-    ways = [(other[0] - one[0], other[1] - one[1]) for one, other in zip(corners, corners[1:] + corners[:1])]
+    ways = [(other[0] - one[0], other[1] - one[1]) for one, other in neighbours(corners)]
     slopes = [(-way[1], way[0]) for way in ways]
     # A stretch's two ways there and back hold its line; its own directions hold its ends.
     return slopes + ways if len(corners) == 2 else slopes
+
+
+def neighbours(ring):
+    """Each cell of a ring with the next one, the last with the first, too."""
+    return list(zip(ring, ring[1:] + ring[:1]))
 
 
 def in_hull(cells, point):

@@ -1,6 +1,6 @@
 """Islands: rising tuples of unlike cells, also the empty one."""
 
-from healfloor.cells import carried, led, worth
+from healfloor.cells import carried, each_led, worth
 
 
 def island_of(cells):
@@ -29,7 +29,7 @@ def island_carried(island, by):
 
 
 def island_led(island, table):
-    return tuple(sorted([led(table, cell) for cell in island]))
+    return tuple(sorted(each_led(table, island)))
 
 
 def cut(island, slope, most):

@@ -1,5 +1,6 @@
 """Rules and books read from their texts."""
 
+from healfloor.cells import stretch_of
 from healfloor.errors import NoText
 from healfloor.words import is_name, is_number, read_numbers
 
@@ -91,11 +92,7 @@ def head_at(pieces, at):
         return None
     if word == "at":
         return (word,) + numbers
-    return (word, numbers) if leads(numbers) else None
-
-
-def leads(table):
-    return table[0] * table[3] != table[1] * table[2]
+    return (word, numbers) if stretch_of(numbers) != 0 else None
 
 
 def leaf_in(piece):

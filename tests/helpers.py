@@ -1,6 +1,7 @@
 """What several tests have in common: rules by chance, and what rules and rows do reckoned in another way."""
 
 import itertools
+from fractions import Fraction
 
 
 def chance_cell(chance, far=3):
@@ -134,3 +135,59 @@ def in_hull_by_hand(cells, point):
     """Whether the point, of two numbers or fractions of Python's own, lies in a triangle of the cells."""
     triples = itertools.combinations_with_replacement(sorted(set(cells)), 3)
     return any(in_triangle(point, triple) for triple in triples)
+
+
+def as_numbers(point):
+    """A point as two fractions of Python's own."""
+    return (Fraction(*point[0]), Fraction(*point[1]))
+
+
+def as_point(numbers):
+    """Two numbers or fractions of Python's own as a point."""
+    return tuple([(Fraction(number).numerator, Fraction(number).denominator) for number in numbers])
+
+
+def swapped(thing, at, part):
+    """A tuple with another part in one place."""
+    return thing[:at] + (part,) + thing[at + 1:]
+
+
+def heals_by_hand(plain, paper):
+    """Whether a healing paper holds, by the words alone."""
+    word, rows, slopes = paper
+    if word != "heals" or not (len(rows) == len(slopes) and 1 <= len(rows) <= 8) or () in rows:
+        return False
+    if not all([set(row) & set(breaking) for row in rows for breaking in plain]):
+        return False
+    if (sum([a for a, b in slopes]), sum([b for a, b in slopes])) != (0, 0):
+        return False
+    return sum([min([value(slope, cell) for cell in row]) for row, slope in zip(rows, slopes)]) >= 1
+
+
+def in_land_by_hand(ring, point):
+    """Whether a point of Python's own numbers lies left of all sides, or on their lines."""
+    return all([turn_of(ring[at - 1], ring[at], point) >= 0 for at in range(len(ring))])
+
+
+def lives_by_hand(plain, paper):
+    """Whether a living paper holds, by the words alone."""
+    word, v, ring, o, q, rows = paper
+    if word != "lives" or len(ring) < 3 or any([ring[at - 1] == ring[at] for at in range(len(ring))]):
+        return False
+    if len(rows) != len(ring) or not all([any([set(row) >= set(one) for one in plain]) for row in rows]):
+        return False
+    square = [(q[0] + i, q[1] + j) for i in (0, 1) for j in (0, 1)]
+    if not all([in_land_by_hand(ring, cell) for cell in list(ring) + [o] + square]):
+        return False
+    left, up = as_numbers(v)
+    for at, row in enumerate(rows):
+        for x, y in (o, ring[at], ring[(at + 1) % len(ring)]):
+            if not all([in_land_by_hand(ring, (x + z[0] - left, y + z[1] - up)) for z in row]):
+                return False
+    return True
+
+
+def land_by_hand(ring, least, most):
+    """All cells of the land in a window."""
+    return tuple([(x, y) for x in range(least, most + 1) for y in range(least, most + 1)
+                  if in_land_by_hand(ring, (x, y))])
