@@ -12,7 +12,7 @@ MOST_ROWS = 8
 
 def healing_holds(plain, paper):
     """Whether the paper is a healing paper that holds for the plain rule."""
-    if paper[0] != HEALS:
+    if len(paper) != 3 or paper[0] != HEALS:
         return False
     rows = paper[1]
     slopes = paper[2]

@@ -15,7 +15,7 @@ MIDDLE = (0, 0)
 
 def living_holds(plain, paper):
     """Whether the paper is a living paper that holds for the plain rule."""
-    if paper[0] != LIVES:
+    if len(paper) != 6 or paper[0] != LIVES:
         return False
     ring = paper[2]
     rows = paper[5]
