@@ -4,7 +4,7 @@ from healfloor.errors import NoText
 from healfloor.fractions import common_divisor
 from healfloor.healing import HEALS
 from healfloor.living import LEAST_RING, LIVES
-from healfloor.words import is_number, read_numbers, show_numbers
+from healfloor.words import is_number, read_numbers, show_number, show_numbers
 
 STROKE = " | "
 MOST_FIGURES = 40
@@ -33,7 +33,8 @@ def show_point(point):
 
 
 def show_fraction(one):
-    return str(one[0]) if one[1] == 1 else "/".join([str(one[0]), str(one[1])])
+    upper = show_number(one[0])
+    return upper if one[1] == 1 else upper + "/" + show_number(one[1])
 
 
 def read_paper(text):

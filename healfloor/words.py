@@ -33,4 +33,17 @@ def read_numbers(text, many, figures):
 
 def show_numbers(numbers):
     """The numbers by their figures, parted by commas."""
-    return ",".join([str(number) for number in numbers])
+    return ",".join([show_number(number) for number in numbers])
+
+
+def show_number(number):
+    """The number by its figures, however many."""
+    if number < 0:
+        return "-" + show_number(-number)
+    # Piece by piece: Python's own str refuses numbers of some thousand figures.
+    piece = 10 ** 64
+    behind = ""
+    while number >= piece:
+        behind = str(number % piece).zfill(64) + behind
+        number = number // piece
+    return str(number) + behind

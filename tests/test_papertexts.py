@@ -106,6 +106,13 @@ class Written(unittest.TestCase):
                 with self.assertRaises(NoText) as caught:
                     read_paper(text)
                 self.assertEqual(caught.exception.row, row)
+        # However great a function here made them.
+        paper = swapped(LIVES, 1, ((-10 ** 5000, 3), (1, 10 ** 5000)))
+        for turn in range(1600):
+            paper = living_greater(paper, 1000)
+        great = "1" + "0" * 4800
+        self.assertEqual(show_paper(paper).split("\n")[:3],
+                         ["lives -1" + "0" * 5000 + "/3,1/1" + "0" * 5000, f"{great},{great} 0,-{great}", "0,0 | 0,0"])
         text = show_paper(swapped(LIVES, 1, ((1, FORTY + 1), (0, 1))))
         self.assertTrue(text.startswith("lives 1/1" + "0" * 40 + ",0\n"))
         with self.assertRaises(NoText):

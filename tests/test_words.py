@@ -2,7 +2,7 @@
 
 import unittest
 
-from healfloor.words import is_name, is_number, read_numbers, show_numbers
+from healfloor.words import is_name, is_number, read_numbers, show_number, show_numbers
 
 
 class Names(unittest.TestCase):
@@ -40,6 +40,16 @@ class Numbers(unittest.TestCase):
     def test_shown(self):
         self.assertEqual(show_numbers((1, -2)), "1,-2")
         self.assertEqual(show_numbers((0, 10 ** 40)), "0," + "1" + "0" * 40)
+
+    def test_one_shown(self):
+        for figures in (1, 2, 19, 40, 63, 64, 65, 127, 128, 129, 900):
+            for number in (0, 1, 10 ** figures - 1, 10 ** figures, 10 ** figures + 1, 7 * 10 ** figures // 9):
+                self.assertEqual(show_number(number), str(number))
+                self.assertEqual(show_number(-number), str(-number))
+
+    def test_more_figures_than_str_takes(self):
+        self.assertEqual(show_number(10 ** 9000), "1" + "0" * 9000)
+        self.assertEqual(show_number(1 - 10 ** 9000), "-" + "9" * 9000)
 
 
 if __name__ == "__main__":
